@@ -1,0 +1,1 @@
+"""Rangehunt: meters that choose their own range and load what they measure."""

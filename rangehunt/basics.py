@@ -2,6 +2,8 @@
 
 from math import gcd
 
+ZERO = (0, 1)
+
 
 def is_integer(value):
     """Whether this is an int that is not a bool."""
@@ -47,6 +49,16 @@ def over(one, other):
 def at_least(one, other):
     """Whether the first ratio is at least the second one."""
     return one[0] * other[1] >= other[0] * one[1]
+
+
+def between(low, high):
+    """A ratio above low and, unless that is None, below high, with short parts."""
+    parts = 1
+    while True:
+        above = low[0] * parts // low[1] + 1
+        if high is None or above * high[1] < high[0] * parts:
+            return ratio(above, parts)
+        parts = parts * 2
 
 
 def whole_of(word):

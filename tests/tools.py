@@ -54,6 +54,58 @@ def any_values():
     ]
 
 
+# Two loads, not in the sequence of the alphabet, and names that begin one another.
+LIT = "\n".join((
+    "meter b",
+    "  range low load 2 unit 1/10 up 4",
+    "  range lo load 4 unit 1 down 2",
+    "meter ba",
+    "  range fine load 1 unit 1/10 up 11/4",
+    "  range fin load 1/2 unit 2/3 down 0 up 3",
+    "  range f load 0 unit 1 down 5/2",
+    "load z 3",
+    "load b 1/2",
+))
+
+# Just 400 classes, and just 401.
+MOST = "\n".join((
+    "meter ab",
+    "  range low load 1/2 unit 5 up 3",
+    "  range lo load 3 unit 1/10 down 2",
+    "meter a",
+    "  range low load 1/2 unit 1/10 up 1",
+    "  range lo load 2 unit 1/10 down 0 up 3/2",
+    "  range b load 3 unit 5 down 3/2 up 3",
+    "  range lower load 1/3 unit 1/10 down 3/2",
+    "load a 1/3",
+    "load z 2",
+))
+MORE = "\n".join((
+    "meter abc",
+    "  range low load 2 unit 1 up 4",
+    "  range lo load 2 unit 1 down 3 up 6",
+    "  range b load 1 unit 5 down 4",
+    "meter a",
+    "  range low load 5 unit 2/3 up 3",
+    "  range lo load 2 unit 5 down 2",
+    "meter ab",
+    "  range low load 2 unit 1 up 2",
+    "  range lo load 11 unit 5 down 2 up 3",
+    "  range b load 11 unit 1 down 1",
+    "load a 2",
+    "load z 3",
+))
+
+# More than 400 lines.
+CROWDED = "\n".join(
+    [f"meter {name}\n" + "\n".join((
+        f"  range a load {k} unit 1 up {k + 1}",
+        f"  range b load {9 * k} unit 1 down {k} up 1{k}",
+        f"  range c load {80 * k} unit 1 down 5/{k} up 2{k}",
+        f"  range d load {700 * k} unit 1 down 7/{k}",
+    )) for k, name in ((2, "k"), (3, "m"), (4, "n"))] + ["load a 1/2", "load b 1/3"]
+)
+
 RATIOS = [
     (0, 1), (1, 1), (1, 2), (2, 1), (2, 3), (3, 2), (7, 1), (10, 1), (11, 4), (90, 1),
     (1, 9999), (9999, 9998), (999999999, 1), (1, 999999999), (123456789, 987654320),
@@ -70,6 +122,30 @@ def no_ratios():
         ("1", 1), (1, "1"), ("1", "2"), (1, None), (None, 1), ((1, 1), 1), (1, (1, 1)), ((1, 2),), ([1], 2), (1, [2]),
         Source((1, 2), (1, 1)), Bench(PAIR), MeterError((1, 2)), nested(30),
     ]
+
+
+def near_settings(bench):
+    """Values of many kinds that are no settings of the bench, but nearly, and any others."""
+    found = any_values() + [bench.settings, bench.meters, bench.text, bench, ((), ()), (("",), ()), (((),), ())]
+    rows = [{row[0]: k for k, row in enumerate(bench[meter])} for meter in bench.meters]
+    for setting in (bench.first, bench.settings[0], bench.settings[-1], bench.settings[len(bench.settings) // 2]):
+        ranges, on = setting
+        found += [
+            list(setting), (list(ranges), on), (ranges, list(on)), [list(ranges), list(on)], {ranges: on},
+            setting + ((),), setting + (on,), setting[:1], (ranges,), ranges, on, (setting,), (on, ranges), ((ranges, on),),
+            (ranges[::-1], on), (ranges[1:] + ranges[:1], on), (ranges[:-1], on), (ranges[1:], on), ((), on),
+            (ranges + ranges[:1], on), (ranges + ranges, on), (ranges + ("low",), on), (bench.meters, on),
+            (ranges, on + on), (ranges, on[::-1]), (ranges, on[:1] + on), (ranges, on + ("nobody",)), (ranges, ("nobody",)),
+            (ranges, bench.loads + bench.loads), (ranges, bench.loads[::-1]), (ranges, bench.loads[:1] * 2),
+            (ranges, bench.meters), (ranges, ranges), (ranges, ("",)), (ranges, ""), (ranges, "z"), (ranges, None),
+            (ranges, 0), (ranges, False), (ranges, (True,)), (ranges, {}), (ranges, ((),)), (ranges, (on,)), (ranges, on, on),
+            (ranges[0], on), ("".join(ranges), on), (" ".join(ranges), on), (None, on), (0, on), ({}, on),
+            (ranges[:-1] + ("nobody",), on), (ranges[:-1] + (None,), on), (ranges[:-1] + ((ranges[-1],),), on),
+            (ranges[:-1] + ([ranges[-1]],), on), (ranges[:-1] + (ranges[-1] + "x",), on), (ranges[:-1] + ("",), on),
+            (ranges[:-1] + (ranges[-1].upper(),), on), (ranges[:-1] + (ranges[-1][:-1],), on),
+            (ranges[:-1] + (nested(20),), on), (tuple(row[name] for row, name in zip(rows, ranges)), on),
+        ]
+    return [value for value in found if not any(is_same(value, setting) for setting in bench.settings)]
 
 
 def fraction(ratio):

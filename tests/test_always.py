@@ -8,7 +8,7 @@ from rangehunt.always import alone, calm, comes, keeps, shows_alone, shows_calm,
 from rangehunt.benches import Bench
 from rangehunt.classes import classes, samples
 from rangehunt.errors import TooMany
-from rangehunt.resting import reached, rests, ring
+from rangehunt.resting import reached, rests, ring, shows_ring
 from rangehunt.sources import Source
 from rangehunt.stepping import steps, turned, walked
 from tests.drawn import bent, drawn_benches, source_of
@@ -318,6 +318,34 @@ class ShowsHappening(Case):
                       ("hunts", ((90, 1), (10, 1)), (), RING), ("hunts", None, (), RING), ("hunts", NONE, (), RING),
                       ("hunts", WEAK, (), RING, ()), ("calm", WEAK, (), RING), ("hunts", pair, (), RING), ("hunts", (WEAK,), (), RING)):
             self.assert_same(shows_calm(pair, pair.first, wrong), False)
+
+    def test_steady_words_tell_of_no_single_source(self):
+        # What stands beside the source is right there; but these words need rows.
+        bench, source = Bench(LAMP), Source((1, 1), (0, 1))
+        low, high = bench.first, (HIGH, ())
+        self.assert_same([shows_ring(bench, low, source, ("calm", (low,))), rests(bench, low, source)], [True, (low,)])
+        for value in (("calm", source, (low,)), ("calm", source, (), ()), ("calm", source)):
+            self.assert_same(shows_calm(bench, low, value), False)
+        for value in (("one", source, (low,)), ("one", source, (), ()), ("one", source)):
+            self.assert_same(shows_alone(bench, low, value), False)
+        for value in (("never", source, (low,)), ("never", source, bench.settings), ("never", source, ())):
+            self.assert_same(shows_comes(bench, low, high, value), False)
+        for value in (("keeps", source, bench.settings), ("keeps", source, ()), ("keeps", source)):
+            self.assert_same(shows_keeps(bench, low, value), False)
+
+    def test_parts_of_any_kind_in_steps_and_settings(self):
+        pair, lit = Bench(PAIR), Bench(LAMP)
+        for step in ((["side"], "up"), ({}, "up"), ("side", []), ("side", {"up": 1}), (["lamp"],), ([],), {}, [], (("side",), "up")):
+            self.assert_same(shows_calm(pair, pair.first, ("hunts", WEAK, (), (step,) + RING[1:])), False)
+            self.assert_same(shows_calm(pair, pair.first, ("hunts", WEAK, (step,), RING)), False)
+            self.assert_same(shows_comes(pair, pair.first, pair.first, ("comes", NONE, (step,))), False)
+            self.assert_same(shows_alone(pair, pair.first, ("two", WEAK, (step,), (step,))), False)
+            self.assert_same(shows_keeps(lit, lit.first, ("moved", WEAK, (step,))), False)
+        for one in ((["low"], ()), (LOW, []), (LOW, (["lamp"],)), (({},), ()), ((LOW,), ()), [], {}):
+            rows = tuple((source, (one,)) for source in samples(lit))
+            for _, shows, right in all_told(lit, lit.first, lit.settings):
+                for word in ("calm", "never", "one", "keeps"):
+                    self.assert_same([shows((word, rows)), right((word, rows))], [False, False])
 
     def test_comes(self):
         pair = Bench(PAIR)

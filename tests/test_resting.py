@@ -157,6 +157,8 @@ class Shows(Case):
         wrong = [("hunts", RING[:k], turned[j]) for k in range(4) for j in range(4) if j != k]
         wrong += [("hunts", (), ()), ("hunts", RING, ()), ("hunts", RING[:1], ()), ("hunts", (), RING[:2]), ("hunts", (), RING[:3])]
         wrong += [("hunts", (), RING + RING[:1]), ("hunts", (), RING[::-1]), ("hunts", RING[1:], RING), ("hunts", RING, RING[:3])]
+        for step in ((["side"], "up"), ({}, "up"), ("side", []), ("side", {}), (), [], {}, ("side",), (("side",), "up")):
+            wrong += [("hunts", (), (step,) + RING[1:]), ("hunts", (step,), RING), ("hunts", (step,), (step,))]
         wrong += [("calm", RING, RING), ("Hunts", (), RING), ("hunt", (), RING), ("", (), RING), (None, (), RING), ((), RING)]
         wrong += [["hunts", (), RING], ("hunts", [], RING), ("hunts", (), list(RING)), ("hunts", RING), ("hunts", RING, (), ())]
         wrong += [("hunts", (), RING, None), ("hunts",), "hunts", (), None, ("hunts", None, RING), ("hunts", (), None)]
@@ -192,7 +194,8 @@ class Shows(Case):
         wrong += [("hunts", order, ()), ("hunts", (), ()), ("hunts", (), order), ("Calm", order), ("", order), (None, order)]
         for k in range(9):
             ranges, on = order[k]
-            for one in ((list(ranges), on), (ranges, list(on)), [ranges, on], (ranges,), ranges, None, (ranges, on, on), (ranges, ("z",)),
+            for one in (([ranges[0]], on), (([ranges[0]], "a"), on), (({}, "a"), on), (ranges, ([],)), (ranges, [[]]), (ranges, ("z",)),
+                        (list(ranges), on), (ranges, list(on)), [ranges, on], (ranges,), ranges, None, (ranges, on, on),
                         (ranges[::-1] + ("a",), on), ("nobody", on), (("a", "d"), on), {}, "".join(ranges), ((), ())):
                 wrong.append(("calm", order[:k] + (one,) + order[k + 1:]))
         self.assert_all(bench, setting, source, wrong + any_values(), False)

@@ -12,17 +12,16 @@ from rangehunt.sources import Source
 from rangehunt.stepping import moves_of, need_setting, turned
 
 
-def on_all(bench, steady, tell):
-    """(steady, rows) if tell, which is handed the ways of a source of each
-    class, tells this word of them all; otherwise (word, source, ..) of one."""
-    moves = moves_of(bench)
-    rows = []
-    for source in samples_of(lines_of(moves)):
-        told = tell(ways_on(moves, source))
+def on_all(rows, steady, tell):
+    """(steady, rows) if tell, which is handed a source of each class of the
+    lines rows, tells this word of them all; otherwise (word, source, ..) of one."""
+    found = []
+    for source in samples_of(rows):
+        told = tell(source)
         if told[0] != steady:
             return (told[0], source, *told[1:])
-        rows.append((source, told[1]))
-    return (steady, tuple(rows))
+        found.append((source, told[1]))
+    return (steady, tuple(found))
 
 
 def are_rows(rows, many, value):
@@ -33,22 +32,31 @@ def are_rows(rows, many, value):
     return are_samples(rows, many, [row[0] for row in value])
 
 
-def shows_on_all(bench, steady, value, is_right):
-    """Whether any value is such as on_all tells, is_right telling of any
-    (word, ..) whether it is right on the source with the ways handed in."""
-    moves = moves_of(bench)
-    rows = lines_of(moves)
+def shows_on_all(rows, steady, value, is_right):
+    """Whether any value is such as on_all tells, is_right telling of a source
+    and any (word, ..) whether it is right there."""
     many = len(samples_of(rows))
     if is_told(value, steady, 2):
         if not are_rows(rows, many, value[1]):
             return False
-        for source, told in value[1]:
-            if not is_right(ways_on(moves, source), (steady, told)):
-                return False
-        return True
+        return all([is_right(source, (steady, told)) for source, told in value[1]])
     if not isinstance(value, tuple) or len(value) < 2 or value[0] == steady:
         return False
-    return isinstance(value[1], Source) and is_right(ways_on(moves, value[1]), (value[0], *value[2:]))
+    return isinstance(value[1], Source) and is_right(value[1], (value[0], *value[2:]))
+
+
+def on_bench(bench, steady, tell):
+    """What on_all tells of the classes of the bench, tell being handed the ways."""
+    moves = moves_of(bench)
+    return on_all(lines_of(moves), steady, lambda source: tell(ways_on(moves, source)))
+
+
+def shows_on_bench(bench, steady, value, is_right):
+    """Whether any value is such as on_bench tells, is_right being handed the ways."""
+    moves = moves_of(bench)
+    return shows_on_all(
+        lines_of(moves), steady, value, lambda source, told: is_right(ways_on(moves, source), told)
+    )
 
 
 def is_rest(ways, setting):
@@ -151,13 +159,13 @@ def is_keeping_of(ways, hands, setting, told):
 def calm(bench, setting):
     """("calm", rows) with orders, or ("hunts", source, row, ring)."""
     need_setting(bench, setting)
-    return on_all(bench, "calm", lambda ways: ring_of(ways, setting))
+    return on_bench(bench, "calm", lambda ways: ring_of(ways, setting))
 
 
 def shows_calm(bench, setting, value):
     """Whether any value is such as calm tells."""
     need_setting(bench, setting)
-    return shows_on_all(bench, "calm", value, lambda ways, told: is_ring_of(ways, setting, told))
+    return shows_on_bench(bench, "calm", value, lambda ways, told: is_ring_of(ways, setting, told))
 
 
 def comes(bench, setting, goal):
@@ -165,26 +173,26 @@ def comes(bench, setting, goal):
     source, otherwise ("never", rows) with settings that are not left."""
     need_setting(bench, setting)
     need_setting(bench, goal)
-    return on_all(bench, "never", lambda ways: coming_of(ways, setting, goal))
+    return on_bench(bench, "never", lambda ways: coming_of(ways, setting, goal))
 
 
 def shows_comes(bench, setting, goal, value):
     """Whether any value is such as comes tells."""
     need_setting(bench, setting)
     need_setting(bench, goal)
-    return shows_on_all(bench, "never", value, lambda ways, told: is_coming_of(ways, setting, goal, told))
+    return shows_on_bench(bench, "never", value, lambda ways, told: is_coming_of(ways, setting, goal, told))
 
 
 def alone(bench, setting):
     """("one", rows) with the rests, or ("two", source, row, other)."""
     need_setting(bench, setting)
-    return on_all(bench, "one", lambda ways: goals_of(ways, setting))
+    return on_bench(bench, "one", lambda ways: goals_of(ways, setting))
 
 
 def shows_alone(bench, setting, value):
     """Whether any value is such as alone tells."""
     need_setting(bench, setting)
-    return shows_on_all(bench, "one", value, lambda ways, told: are_goals_of(ways, setting, told))
+    return shows_on_bench(bench, "one", value, lambda ways, told: are_goals_of(ways, setting, told))
 
 
 def keeps(bench, setting):
@@ -192,11 +200,11 @@ def keeps(bench, setting):
     deeds) if a load that is put on and off for a moment leads to another rest."""
     need_setting(bench, setting)
     hands = hands_of(bench)
-    return on_all(bench, "keeps", lambda ways: keeping_of(ways, hands, setting))
+    return on_bench(bench, "keeps", lambda ways: keeping_of(ways, hands, setting))
 
 
 def shows_keeps(bench, setting, value):
     """Whether any value is such as keeps tells."""
     need_setting(bench, setting)
     hands = hands_of(bench)
-    return shows_on_all(bench, "keeps", value, lambda ways, told: is_keeping_of(ways, hands, setting, told))
+    return shows_on_bench(bench, "keeps", value, lambda ways, told: is_keeping_of(ways, hands, setting, told))

@@ -51,7 +51,7 @@ def at_least(one, other):
     return one[0] * other[1] >= other[0] * one[1]
 
 
-def between(low, high):
+def ratio_between(low, high):
     """A ratio above low and, unless that is None, below high, with short parts."""
     parts = 1
     while True:
@@ -77,6 +77,19 @@ def ratio_of(word):
     if not is_ratio(pair) or (slash and pair[1] == 1):
         return None
     return pair
+
+
+def text_of(pair):
+    """The text of a ratio."""
+    above, below = pair
+    return f"{above}" if below == 1 else f"{above}/{below}"
+
+
+def is_same(one, other):
+    """Whether two values are equal in all their parts, True and 1 not being so."""
+    if isinstance(one, tuple) and isinstance(other, tuple):
+        return len(one) == len(other) and all([is_same(part, by) for part, by in zip(one, other)])
+    return isinstance(one, bool) == isinstance(other, bool) and one == other
 
 
 def merged(one, other):

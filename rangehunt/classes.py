@@ -2,7 +2,7 @@
 
 from math import lcm
 
-from rangehunt.basics import ZERO, ascending, at_least, between, plus, ratio, times
+from rangehunt.basics import ZERO, ascending, at_least, plus, ratio, ratio_between, times
 from rangehunt.errors import TooMany
 from rangehunt.sources import Source
 from rangehunt.stepping import moves_of, reaches
@@ -77,7 +77,7 @@ def source_in(order, many, ohms):
     """A Source of these ohms above the first so many lines, and below the others."""
     low = volts_on(order[many - 1], ohms) if many else ZERO
     high = volts_on(order[many], ohms) if many < len(order) else None
-    return Source(between(low, high), ohms)
+    return Source(ratio_between(low, high), ohms)
 
 
 def samples_of(rows):
@@ -94,7 +94,7 @@ def samples_of(rows):
         if len(found) + len(gaps) > MOST_CLASSES:
             raise TooMany(MOST_CLASSES)
         end = next_meeting(order)
-        ohms = between(start, end)
+        ohms = ratio_between(start, end)
         found.extend([source_in(order, many, ohms) for many in gaps])
         gaps = []
         if end is not None:

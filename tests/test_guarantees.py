@@ -1,4 +1,4 @@
-"""Section 3, (a) to (f): what holds on all benches and sources."""
+"""Section 3: what holds on all benches and sources, and over the whole program."""
 
 import random
 import unittest
@@ -6,11 +6,19 @@ from fractions import Fraction
 
 from rangehunt.always import alone, calm, comes, keeps
 from rangehunt.benches import Bench
+from rangehunt.beside import alike
+from rangehunt.changing import cheapest
 from rangehunt.classes import line_up
+from rangehunt.errors import Hunting, MeterError
+from rangehunt.journals import journal, read_journal
+from rangehunt.logs import between, conditions, extent, fits, shows_fits
 from rangehunt.resting import reached, rests, ring
 from rangehunt.sources import Source
-from rangehunt.stepping import after, shown, steps, turned, walked
+from rangehunt.spreading import least_spread
+from rangehunt.stepping import after, reads, shown, steps, turned, walked
+from rangehunt.tables import Table
 from tests.drawn import drawn_benches, source_of
+from tests.own_logs import Left, drawn_logs, own_conditions, walk_log
 from tests.tools import LIT, PAIR, Case, fraction
 from tests.world import going_on, own_points, world_of
 
@@ -228,6 +236,188 @@ class Scales(Case):
         wanted = "meter up\n  range unit load 2 unit 1/5 up 8\n  range down load 4 unit 2 down 4"
         text = "meter up\n  range unit load 2 unit 1/10 up 4\n  range down load 4 unit 1 down 2"
         self.assertEqual(self.scaled(text, ("up", "down", "unit"), 2), wanted)
+
+
+class Spreads(Case):
+    """(g)"""
+
+    def test_calm_stays_calm(self):
+        rng = random.Random(44)
+        seen = 0
+        for bench in drawn_benches(44, 40, slope=1) + drawn_benches(45, 30):
+            setting = rng.choice(bench.settings)
+            many = rng.randrange(20)
+            words = [calm(bench.spread_by(spread), setting)[0] for spread in (many, rng.randrange(many + 1, 21))]
+            self.assertNotEqual(words, ["calm", "hunts"])
+            least = least_spread(bench, setting)[1]
+            self.assert_same([word == "calm" for word in words[:1]], [many >= least])
+            seen += words == ["hunts", "calm"]
+        self.assertGreater(seen, 3)
+
+    def test_no_ring_on_any_source(self):
+        rng = random.Random(46)
+        for bench in drawn_benches(46, 30, slope=1):
+            setting = rng.choice(bench.settings)
+            least = least_spread(bench, setting)[1]
+            for spread in {least, rng.randrange(least, 21), 20}:
+                some = bench.spread_by(spread)
+                for _ in range(8):
+                    self.assertFalse(world_of(some, any_source(rng, bench)).can_hunt(setting))
+
+
+class Shown(Case):
+    """(a): what a log tells holds on each source on which it may be seen."""
+
+    def test_bounds_hold_on_each_source_that_fits(self):
+        rng = random.Random(47)
+        for bench in drawn_benches(47, 40, hands=1):
+            source = any_source(rng, bench)
+            log = walk_log(rng, bench, fraction(source.volts), fraction(source.ohms), rng.randrange(1, 13))
+            self.assert_same([fits(bench, log)[0], shows_fits(bench, log, ("fits", source))], ["fits", True])
+            (least, is_taken), most, (low, is_low), high = extent(bench, log)
+            self.assertTrue(fraction(source.volts) >= fraction(least) and (is_taken or source.volts != least))
+            self.assertTrue(fraction(source.ohms) >= fraction(low) and (is_low or source.ohms != low))
+            self.assertTrue(most == () or fraction(source.volts) < fraction(most))
+            self.assertTrue(high == () or fraction(source.ohms) < fraction(high))
+            for setting in bench.settings:
+                (least, is_taken), most = between(bench, log, setting)
+                read = reads(bench, setting, source)
+                self.assertTrue(fraction(read) >= fraction(least) and (is_taken or read != least))
+                self.assertTrue(most == () or fraction(read) < fraction(most))
+
+    def test_what_is_taken_is_there(self):
+        # Volts that are taken are those of a source that fits; of those that are not, a little more are.
+        rng = random.Random(48)
+        seen = set()
+        for bench in drawn_benches(48, 25, hands=1):
+            for log in drawn_logs(rng, bench, 3):
+                left = Left(own_conditions(bench, log))
+                if left.pieces:
+                    (least, is_taken), _, _, _ = extent(bench, log)
+                    seen.add(is_taken)
+                    lowest = min((left.lower(place), place) for _, place, _ in left.pieces)
+                    self.assert_same(is_taken, lowest[0] == fraction(least))
+                    source = source_of(lowest)
+                    self.assert_same([shows_fits(bench, log, ("fits", source)), source.volts == least], [True, is_taken])
+        self.assertEqual(seen, {True, False})
+
+    def test_no_source_fits_where_never_is_told(self):
+        rng = random.Random(49)
+        for bench in drawn_benches(49, 25):
+            for log in drawn_logs(rng, bench, 4):
+                asked = conditions(bench, log)
+                if fits(bench, log)[0] == "never":
+                    for _ in range(10):
+                        source = any_source(rng, bench)
+                        volts, ohms = fraction(source.volts), fraction(source.ohms)
+                        holds = [(volts >= fraction(u) + fraction(m) * ohms) == (word == "least") for u, m, word in asked]
+                        self.assertFalse(all(holds))
+
+
+class Beside(Case):
+    """(a) of two benches, and of changes."""
+
+    def test_alike_on_each_source(self):
+        rng = random.Random(50)
+        seen = set()
+        for bench in drawn_benches(50, 40):
+            other = bench.spread_by(rng.choice((1, 2, 20)))
+            setting = rng.choice(bench.settings)
+            told = alike(bench, other, setting)
+            seen.add(told[0])
+            for _ in range(10):
+                source = any_source(rng, rng.choice((bench, other)))
+                if told[0] == "alike":
+                    self.assert_same(rests(bench, setting, source), rests(other, setting, source))
+            if told[0] == "parts":
+                own, further = (bench, other) if told[3] else (other, bench)
+                goal = walked(own, setting, *told[1:3])
+                self.assert_same([steps(own, goal, told[1]), goal in rests(further, setting, told[1])], [(), False])
+        self.assertEqual(seen, {"alike", "parts"})
+
+    def test_what_is_chosen_is_calm_on_each_source(self):
+        rng = random.Random(51)
+        seen = 0
+        for bench in drawn_benches(51, 40, slope=1):
+            line = bench.text.split("\n")[0]
+            if bench.spread == 0:
+                offers = tuple((1, f"spread {many}\n{line}", price) for many, price in ((20, 9), (3, 2), (8, 4)))
+                told = cheapest(bench, tuple(sorted(offers)), (("calm", bench.first),))
+                self.assert_same(told[0], "choice")
+                least = least_spread(bench, bench.first)[1]
+                wanted = 0 if least == 0 else 2 if least <= 3 else 4 if least <= 8 else 9
+                self.assert_same(told[1], wanted)
+                seen += least > 0
+        self.assertGreater(seen, 3)
+
+
+class Live(Case):
+    """(h)"""
+
+    def played(self, rng, bench, many):
+        """A table on which so many things were done, and the deeds that stand."""
+        table = Table(bench, any_source(rng, bench))
+        began, deeds = table.source, []
+        for _ in range(many):
+            found = [("step", *step) for step in steps(bench, table.setting, table.source)]
+            found += [("hand", load) for load in bench.loads] + [("settle",), ("stand", any_source(rng, bench))]
+            word, *more = rng.choice(found)
+            try:
+                getattr(table, word)(*more)
+            except Hunting:
+                continue
+            deeds.append((word, *more))
+        return table, began, deeds
+
+    def test_a_table_tells_what_its_deeds_came_to(self):
+        rng = random.Random(52)
+        for bench in drawn_benches(52, 30, hands=1) + [Bench(PAIR), Bench(LIT)]:
+            table, source, deeds = self.played(rng, bench, 15)
+            here = bench.first
+            for word, *more in deeds:
+                if word == "step":
+                    self.assertIn(tuple(more), steps(bench, here, source))
+                    here = after(bench, here, tuple(more))
+                elif word == "hand":
+                    here = turned(bench, here, *more)
+                elif word == "stand":
+                    source, = more
+                else:
+                    while steps(bench, here, source):
+                        here = after(bench, here, steps(bench, here, source)[0])
+            self.assert_same([table.setting, table.done, table.figures], [here, len(deeds), shown(bench, here, source)])
+            self.assertEqual(table.source, source)
+            self.assert_same(shows_fits(bench, table.log, ("fits", source)), True)
+            self.assert_same(table.log[-1], (here, shown(bench, here, source)))
+
+    def test_undone_deeds_and_trials_leave_nothing(self):
+        rng = random.Random(53)
+        for bench in drawn_benches(53, 20, hands=1):
+            table, _, _ = self.played(rng, bench, 8)
+            text, log, done = journal(table), table.log, table.done
+            with table.trial():
+                for _ in range(6):
+                    try:
+                        rng.choice((table.undo, table.redo, table.settle, lambda: table.hand(bench.loads[0])))()
+                    except MeterError:
+                        pass
+            self.assert_same([journal(table), table.log, table.done], [text, log, done])
+            for _ in range(5):
+                table.hand(bench.loads[0])
+            for _ in range(5):
+                table.undo()
+            self.assert_same([journal(table), table.log, table.done], [text, log, done])
+
+    def test_a_journal_is_read_back(self):
+        rng = random.Random(54)
+        for bench in drawn_benches(54, 20, hands=1) + drawn_benches(55, 10):
+            table, _, _ = self.played(rng, bench, 20)
+            other = read_journal(journal(table))
+            self.assertEqual(other, table)
+            self.assert_same([other.log, other.done, other.known(), journal(other)], [table.log, table.done, table.known(), journal(table)])
+            with other.trial():
+                other.hand(bench.loads[0]) if bench.loads else other.undo()
+            self.assert_same(journal(other), journal(table))
 
 
 class Named(Case):

@@ -177,7 +177,7 @@ class Case(unittest.TestCase):
         self.assertIs(type(source), Source)
         self.assert_same((source.volts, source.ohms), (volts, ohms))
 
-    def raised(self, error, call, *args, **more):
+    def raised(self, error, call, /, *args, **more):
         """The error of just this class that the call raises."""
         try:
             found = call(*args, **more)
@@ -186,10 +186,10 @@ class Case(unittest.TestCase):
             return what
         return self.fail(f"no {error.__name__} but {found!r}: {args!r}")
 
-    def assert_refused(self, error, value, call, *args, **more):
+    def assert_refused(self, error, value, call, /, *args, **more):
         """The call raises this error with this very value."""
         self.assertIs(self.raised(error, call, *args, **more).value, value)
 
-    def assert_number(self, error, number, call, *args):
+    def assert_number(self, error, number, call, /, *args, **more):
         """The call raises this error with this integer."""
-        self.assert_same(self.raised(error, call, *args).value, number)
+        self.assert_same(self.raised(error, call, *args, **more).value, number)

@@ -58,11 +58,14 @@ def meetings(lines):
     return points
 
 
+def count_among(lines):
+    """How many classes these lines make, by the points at which they meet."""
+    return len(lines) + 1 + sum(len(found) - 1 for found in meetings(lines).values())
+
+
 @remembered
 def own_count(bench):
-    """How many classes there are, by the points at which lines meet."""
-    lines = own_lines(bench)
-    return len(lines) + 1 + sum(len(found) - 1 for found in meetings(lines).values())
+    return count_among(own_lines(bench))
 
 
 @remembered
@@ -71,11 +74,9 @@ def own_class(bench, volts, ohms):
     return frozenset(line for line in own_lines(bench) if volts >= line[0] + line[1] * ohms)
 
 
-@remembered
-def own_points(bench):
+def points_among(lines):
     """Points (volts, ohms) by their classes: of each class those that are found
     on lines, where lines meet, between, beyond, and at 0."""
-    lines = own_lines(bench)
     ends = [Fraction(0)] + sorted({ohms for ohms, _ in meetings(lines)})
     places = ends + [(one + other) / 2 for one, other in zip(ends, ends[1:])] + [ends[-1] + 1]
     found = {}
@@ -90,6 +91,11 @@ def own_points(bench):
             found.setdefault(reached, []).extend(((low, ohms), ((low + high) / 2, ohms)))
             reached, low = reached.union(rows.get(volts, ())), high
     return found
+
+
+@remembered
+def own_points(bench):
+    return points_among(own_lines(bench))
 
 
 def class_of(bench, source):
